@@ -1,0 +1,1 @@
+"""Liftwave: pictures told bit row by bit row, cut off anywhere."""
