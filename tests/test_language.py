@@ -1,6 +1,7 @@
 """The rules of LANGUAGE.md that can be seen in a file by itself."""
 
 import ast
+import builtins
 import pathlib
 import re
 import unittest
@@ -32,6 +33,8 @@ WORDS = (
     "NamedTuple TypedDict TYPE_CHECKING abstractmethod"
 ).split()
 WORD_PARTS = ("dataclass", "overload", "contextmanager")
+WALKED_AT_ONCE = ("zip", "enumerate", "reversed", "range", "items", "keys", "values")
+WALKERS = ("list", "tuple", "dict", "sorted", "sum", "any", "all", "enumerate", "zip", "min", "max", "join")
 
 
 def files():
@@ -131,10 +134,73 @@ def node_fault(node, bound, own_methods):
     return None
 
 
+def called_name(node):
+    if not isinstance(node, ast.Call):
+        return None
+    return node.func.attr if isinstance(node.func, ast.Attribute) else getattr(node.func, "id", None)
+
+
+def kept_walks(tree):
+    """L23 and L24: what is to be walked on the spot, and is not; sets that are kept."""
+    walked = []
+    set_uses = []
+    for node in ast.walk(tree):
+        if isinstance(node, (ast.For, ast.comprehension)):
+            walked.append(node.iter)
+        elif called_name(node) in WALKERS:
+            walked.extend(node.args if called_name(node) == "zip" else node.args[:1])
+        if called_name(node) in ("sorted", "len"):
+            set_uses.extend(node.args[:1])
+        elif isinstance(node, ast.Compare):
+            set_uses.extend([node.left] + node.comparators)
+    found = []
+    for node in ast.walk(tree):
+        if called_name(node) in WALKED_AT_ONCE and not any(node is other for other in walked):
+            found.append(("L23", node.lineno))
+        if called_name(node) == "set" and not any(node is other for other in set_uses):
+            found.append(("L24", node.lineno))
+    return found
+
+
+def shadowing_names(tree):
+    """L15: parameters and locals called like a class or an import of the file, or like a name of Python's own."""
+    taken = set(dir(builtins))
+    for node in tree.body:
+        if isinstance(node, ast.ImportFrom):
+            taken.update(alias.name for alias in node.names)
+        elif isinstance(node, ast.ClassDef):
+            taken.add(node.name)
+    found = []
+    for node in ast.walk(tree):
+        if isinstance(node, ast.arg) and node.arg in taken:
+            found.append(("L15", node.lineno))
+        if isinstance(node, ast.Name) and isinstance(node.ctx, ast.Store) and node.id in taken:
+            found.append(("L15", node.lineno))
+    return found
+
+
+def methods_and_values(trees):
+    """L18: the names of all methods, and the names of all values that objects are given."""
+    methods = set()
+    values = set()
+    for tree in trees:
+        for node in ast.walk(tree):
+            if isinstance(node, ast.ClassDef):
+                methods.update(inner.name for inner in node.body if isinstance(inner, ast.FunctionDef))
+            elif isinstance(node, ast.Attribute) and isinstance(node.ctx, ast.Store):
+                values.add(node.attr)
+    return methods, values
+
+
+def pythons_names():
+    """L26: what Python's own texts, numbers, lists, dicts, sets and bytes have as a method or a value."""
+    return {name for kind in (str, int, list, tuple, dict, set, bytes) for name in dir(kind)}
+
+
 def faults(text, own_methods=()):
     tree = ast.parse(text)
     bound = bound_names(tree)
-    found = text_faults(text) + top_faults(tree)
+    found = text_faults(text) + top_faults(tree) + kept_walks(tree) + shadowing_names(tree)
     for name in bound:
         if name in PYTHONS_OWN or name.startswith("_") and name not in TWO_UNDERSCORES:
             found.append(("L12", name))
@@ -149,19 +215,20 @@ def faults(text, own_methods=()):
 
 
 class TheRules(unittest.TestCase):
-    def own_methods(self):
-        names = set(TWO_UNDERSCORES)
-        for path in files():
-            for node in ast.walk(ast.parse(path.read_text(encoding="utf-8"))):
-                if isinstance(node, ast.ClassDef):
-                    names.update(inner.name for inner in node.body if isinstance(inner, ast.FunctionDef))
-        return names
+    def methods_and_values(self):
+        return methods_and_values([ast.parse(path.read_text(encoding="utf-8")) for path in files()])
 
     def test_the_package_keeps_to_them(self):
-        own_methods = self.own_methods()
+        own_methods = self.methods_and_values()[0] | set(TWO_UNDERSCORES)
         for path in files():
             with self.subTest(file=path.name):
                 self.assertEqual(faults(path.read_text(encoding="utf-8"), own_methods), [])
+
+    def test_no_name_is_a_method_and_a_value_or_one_of_pythons_own(self):
+        methods, values = self.methods_and_values()
+        self.assertEqual(methods & values, set())
+        self.assertEqual((methods - set(TWO_UNDERSCORES)) & pythons_names(), set())
+        self.assertEqual(values & pythons_names(), set())
 
     def test_only_plain_files_lie_in_the_package(self):
         self.assertTrue((PACKAGE / "__init__.py").is_file())
@@ -195,12 +262,19 @@ class TheRules(unittest.TestCase):
             "L16": "from os import path\n",
             "L17": "# a type\n",
             "L20": "def f(a, b):\n    return a is b\n",
+            "L23": "def f(a):\n    return list(reversed(range(a)))\n",
+            "L24": "def f(a):\n    b = set(a)\n    return b\n",
             "L25": "def f(a):\n    return a.title()\n",
             "L27": "def f(a):\n    return 2 ** a\n",
         }
         for rule, text in outside.items():
             with self.subTest(rule=rule):
                 self.assertIn(rule, [fault[0] for fault in faults('"""A file."""\n' + text)])
+        for text in ("from liftwave.spans import plus\ndef f(plus):\n    return plus\n",
+                     "def f(a):\n    hash = a\n    return hash\n", "class C:\n    pass\ndef f(C):\n    return C\n"):
+            self.assertIn("L15", [fault[0] for fault in faults('"""A file."""\n' + text)])
+        tree = ast.parse("class C:\n    def m(self):\n        self.m = 1\n")
+        self.assertEqual(methods_and_values([tree]), ({"m"}, {"m"}))
 
 
 if __name__ == "__main__":

@@ -3,11 +3,10 @@
 import random
 import unittest
 
+from helping import GREAT, STRIDES, some_ladder, some_row
 from liftwave.lifts import ladder_of, lowered, raised
 
-STRIDES = (1, 2, 4, 8, 16, 32, 64)
 LENGTHS = (1, 2, 3, 4, 5, 8, 9, 31, 33, 64, 65, 129, 130)
-GREAT = 10 ** 60 - 1
 
 
 def raised_by_looking(row, ladder, stride):
@@ -24,15 +23,6 @@ def raised_by_looking(row, ladder, stride):
     whole = list(row)
     whole[::stride] = part
     return whole
-
-
-def some_row(chance, many, most):
-    return [chance.randint(-most, most) for k in range(many)]
-
-
-def some_ladder(chance, many):
-    return tuple((chance.randint(0, 1), chance.randint(-8, 8), chance.randint(-8, 8), chance.randint(-64, 64),
-                  chance.randint(0, 8)) for k in range(many))
 
 
 class ByHand(unittest.TestCase):

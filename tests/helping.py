@@ -1,0 +1,147 @@
+"""What several tests share: things made by a seeded chance, and the document's words done plainly."""
+
+NAMES = ("still", "pair", "line", "long")
+STRIDES = (1, 2, 4, 8, 16, 32, 64)
+GREAT = 10 ** 60 - 1
+UTMOST = 10 ** 300 - 1
+
+
+def some_number(chance, most):
+    return chance.randint(-most, most)
+
+
+def some_row(chance, many, most):
+    return [some_number(chance, most) for k in range(many)]
+
+
+def some_ladder(chance, many):
+    return tuple((chance.randint(0, 1), chance.randint(-8, 8), chance.randint(-8, 8), chance.randint(-64, 64),
+                  chance.randint(0, 8)) for k in range(many))
+
+
+def some_span(chance, most):
+    return tuple(sorted(some_row(chance, 2, most)))
+
+
+def some_within(chance, span):
+    return tuple(sorted(chance.randint(span[0], span[1]) for k in range(2)))
+
+
+def some_picture(chance, high, wide, most):
+    return [some_row(chance, wide, most) for i in range(high)]
+
+
+def some_bits(chance, many):
+    return "".join(chance.choice("01") for k in range(many))
+
+
+def copied(sheet):
+    return [list(row) for row in sheet]
+
+
+def single(numbers):
+    """The spans of one number each."""
+    return [(number, number) for number in numbers]
+
+
+def each_thing(sheet):
+    return [thing for row in sheet for thing in row]
+
+
+def sheet_within(sheet, other):
+    return all(b[0] <= a[0] and a[1] <= b[1] for a, b in zip(each_thing(sheet), each_thing(other), strict=True))
+
+
+class OutOfBits(Exception):
+    pass
+
+
+def plainly_told(numbers, planes):
+    """Points 18 and 19, by recursion over the numbers themselves."""
+    bits = []
+
+    def walk(start, end, p, sure):
+        part = numbers[start:end]
+        middle = (start + end) // 2
+        if any(abs(number) >= 2 ** (p + 1) for number in part):
+            if len(part) == 1:
+                bits.append(str(abs(part[0]) // 2 ** p % 2))
+            else:
+                walk(start, middle, p, False)
+                walk(middle, end, p, False)
+            return
+        wakes = any(2 ** p <= abs(number) < 2 ** (p + 1) for number in part)
+        if not sure:
+            bits.append("1" if wakes else "0")
+        if wakes and len(part) == 1:
+            bits.append("0" if part[0] > 0 else "1")
+        elif wakes:
+            walk(start, middle, p, False)
+            walk(middle, end, p, not any(2 ** p <= abs(number) for number in numbers[start:middle]))
+
+    for p in reversed(range(planes)):
+        walk(0, len(numbers), p, False)
+    return "".join(bits)
+
+
+class PlainReading:
+    """Point 20, by recursion: of each number its sign, m and q; of the whole the bits used and the ends of rows."""
+
+    def __init__(self, bits, many, planes):
+        self.bits = bits
+        self.used = 0
+        self.signs = [0] * many
+        self.m = [0] * many
+        self.q = [planes] * many
+        self.ends = []
+        self.whole = False
+        try:
+            for p in reversed(range(planes)):
+                awake = [sign != 0 for sign in self.signs]
+                self.walk(0, many, p, False, awake)
+                self.ends.append(self.used)
+            self.whole = True
+        except OutOfBits:
+            pass
+
+    def bit(self):
+        if self.used == len(self.bits):
+            raise OutOfBits
+        self.used += 1
+        return self.bits[self.used - 1]
+
+    def walk(self, start, end, p, sure, awake):
+        """Whether one of the part wakes in this row."""
+        middle = (start + end) // 2
+        if any(awake[start:end]):
+            if end - start == 1:
+                self.m[start] += int(self.bit()) * 2 ** p
+                self.q[start] = p
+            else:
+                self.walk(start, middle, p, False, awake)
+                self.walk(middle, end, p, False, awake)
+            return False
+        if not sure and self.bit() == "0":
+            for at in range(start, end):
+                self.q[at] = p
+            return False
+        if end - start == 1:
+            self.signs[start] = 1 if self.bit() == "0" else -1
+            self.m[start] = 2 ** p
+            self.q[start] = p
+        else:
+            first = self.walk(start, middle, p, False, awake)
+            self.walk(middle, end, p, not first, awake)
+        return True
+
+    def spans(self):
+        found = []
+        for sign, m, q in zip(self.signs, self.m, self.q):
+            n = 2 ** q
+            found.append({0: (1 - n, n - 1), 1: (m, m + n - 1), -1: (1 - m - n, -m)}[sign])
+        return found
+
+
+def plainly_read(bits, many, planes):
+    reading = PlainReading(bits, many, planes)
+    return (reading.spans(), reading.used, reading.whole)
