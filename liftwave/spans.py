@@ -24,6 +24,10 @@ def breadth(one):
     return one[1] - one[0]
 
 
+def broadest(some):
+    return max([breadth(one) for one in some])
+
+
 def holds(one, number):
     return one[0] <= number <= one[1]
 

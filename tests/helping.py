@@ -1,5 +1,9 @@
 """What several tests share: things made by a seeded chance, and the document's words done plainly."""
 
+import random
+
+from liftwave.lifts import ladder_of
+
 NAMES = ("still", "pair", "line", "long")
 STRIDES = (1, 2, 4, 8, 16, 32, 64)
 GREAT = 10 ** 60 - 1
@@ -29,6 +33,20 @@ def some_within(chance, span):
 
 def some_picture(chance, high, wide, most):
     return [some_row(chance, wide, most) for i in range(high)]
+
+
+def some_streams(seed):
+    """Pictures of all shapes with the ladder and the levels by which they are to be coded."""
+    chance = random.Random(seed)
+    for high, wide in ((1, 1), (1, 6), (6, 1), (2, 2), (3, 5), (5, 3), (8, 8), (7, 9), (13, 4)):
+        for ladder in [ladder_of(name) for name in NAMES] + [some_ladder(chance, chance.randint(1, 6))]:
+            levels = chance.randint(0, 6)
+            yield chance, some_picture(chance, high, wide, chance.choice((0, 1, 9, 255))), ladder, levels
+
+
+def some_cuts(chance, bits, many):
+    """Some numbers of bits, none and all among them."""
+    return sorted({0, len(bits)} | {chance.randint(0, len(bits)) for k in range(many)})
 
 
 def some_bits(chance, many):

@@ -140,6 +140,8 @@ class ByTheDefinition(unittest.TestCase):
                 wave = laid(picture, ladder, levels)
                 self.assertEqual(wave, laid_by_looking(picture, ladder, levels))
                 self.assertEqual(opened(wave, ladder, levels), picture)
+                self.assertEqual(opened(picture, ladder, levels),
+                                 opened_by_looking(picture, lowered, ladder, levels, 0))
                 self.assertEqual(laid(opened(picture, ladder, levels), ladder, levels), picture)
                 self.assertEqual(picture, kept)
 

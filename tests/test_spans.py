@@ -3,7 +3,7 @@
 import random
 import unittest
 
-from liftwave.spans import breadth, halved, holds, minus, plus, times, within
+from liftwave.spans import breadth, broadest, halved, holds, minus, plus, times, within
 
 GREAT = 10 ** 59 + 12345678901234567890
 SMALL_SPANS = [(low, high) for low in range(-6, 7) for high in range(low, 7)]
@@ -97,6 +97,11 @@ class BreadthHoldsWithin(unittest.TestCase):
         self.assertEqual(breadth((-3, 4)), 7)
         self.assertEqual(breadth((-9, -4)), 5)
         self.assertEqual(breadth((-GREAT, GREAT)), 2 * GREAT)
+
+    def test_broadest(self):
+        self.assertEqual(broadest([(5, 5)]), 0)
+        self.assertEqual(broadest([(-3, 4), (0, 1), (9, 9)]), 7)
+        self.assertEqual(broadest([(9, 9), (0, 1), (-3, 4)]), 7)
 
     def test_holds_both_ends_and_not_one_beyond(self):
         for low, high in SMALL_SPANS + GREAT_SPANS:
