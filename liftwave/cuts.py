@@ -1,10 +1,9 @@
 """How broad the spans are behind so many bits, and how many bits are enough."""
 
-from liftwave.bitreading import read
 from liftwave.pieces import level
 from liftwave.sheets import opened_breadths
 from liftwave.spans import broadest
-from liftwave.streams import HIGH, LADDER, LEVELS, PLANES, WIDE
+from liftwave.streams import HIGH, LADDER, LEVELS, WIDE, walk_of
 
 
 def bounds(head, plane):
@@ -15,7 +14,7 @@ def bounds(head, plane):
 
 
 def broad(head, bits, many):
-    spans = read(bits[:many], head[HIGH] * head[WIDE], head[PLANES])[0]
+    spans = walk_of(head, bits[:many]).spans()
     return max([broadest(row) for row in level(head, spans, 0)])
 
 

@@ -1,9 +1,8 @@
 """Readers, which are fed bits some at a time."""
 
-from liftwave.bitreading import followed
 from liftwave.errors import NoBits, NoHead, TooMany
 from liftwave.pieces import level
-from liftwave.streams import HIGH, PLANES, WIDE, is_head
+from liftwave.streams import is_head, walk_of
 
 
 class Reader:
@@ -12,10 +11,7 @@ class Reader:
             raise NoHead("a head is a tuple (HIGH, WIDE, LEVELS, PLANES, LADDER)")
         self.head = head
         self.fed = []
-        self.walk = self.walk_anew()
-
-    def walk_anew(self):
-        return followed(self.fed, self.head[HIGH] * self.head[WIDE], self.head[PLANES])
+        self.walk = walk_of(head, "")
 
     def feed(self, bits):
         if bits.strip("01") != "":
@@ -23,7 +19,7 @@ class Reader:
         self.walk.follow(bits)
         if self.walk.used < len(self.fed) + len(bits):
             # The walk has gone on with bits that are refused: it goes back to those fed before.
-            self.walk = self.walk_anew()
+            self.walk = walk_of(self.head, self.fed)
             raise TooMany("the stream is whole before these bits end")
         self.fed.extend(bits)
 

@@ -1,5 +1,6 @@
 """Heads, and pictures coded as streams."""
 
+from liftwave.bitreading import followed
 from liftwave.bitrows import planes_of, told
 from liftwave.errors import NoLadder, NoLevel, NoPicture
 from liftwave.kinds import is_number
@@ -30,6 +31,10 @@ def is_head(thing):
 
 def head_places(head):
     return places(head[HIGH], head[WIDE], head[LEVELS])
+
+
+def walk_of(head, bits):
+    return followed(bits, head[HIGH] * head[WIDE], head[PLANES])
 
 
 def coded(picture, ladder=None, levels=2):

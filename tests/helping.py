@@ -2,12 +2,17 @@
 
 import random
 
+from liftwave.bitrows import told
+from liftwave.lattice import places
 from liftwave.lifts import ladder_of
+from liftwave.sheets import laid, opened_spans
+from liftwave.streams import sheet_of
 
 NAMES = ("still", "pair", "line", "long")
 STRIDES = (1, 2, 4, 8, 16, 32, 64)
 GREAT = 10 ** 60 - 1
 UTMOST = 10 ** 300 - 1
+SIGNS = "".join(chr(sign) for sign in range(ord(" "), ord("~") + 1) if chr(sign) != "%")
 
 
 def some_number(chance, most):
@@ -44,6 +49,18 @@ def some_streams(seed):
             yield chance, some_picture(chance, high, wide, chance.choice((0, 1, 9, 255))), ladder, levels
 
 
+def bits_of(picture, head):
+    """The bits of a picture in the planes of the head, which may be more than the least."""
+    wave = laid(picture, head[4], head[2])
+    return told([wave[i][j] for i, j in places(head[0], head[1], head[2])], head[3])
+
+
+def with_planes(picture, head, planes):
+    """The stream of a picture in so many planes."""
+    more = head[:3] + (planes,) + head[4:]
+    return (more, bits_of(picture, more))
+
+
 def some_cuts(chance, bits, many):
     """Some numbers of bits, none and all among them."""
     return sorted({0, len(bits)} | {chance.randint(0, len(bits)) for k in range(many)})
@@ -68,6 +85,20 @@ def each_thing(sheet):
 
 def sheet_within(sheet, other):
     return all(b[0] <= a[0] and a[1] <= b[1] for a, b in zip(each_thing(sheet), each_thing(other), strict=True))
+
+
+def holds_each(sheet, picture):
+    pairs = zip(each_thing(sheet), each_thing(picture), strict=True)
+    return all(low <= cell <= high for (low, high), cell in pairs)
+
+
+def altered(text):
+    """All texts with one sign of it left out, or any sign put ahead of it or in its place."""
+    for at in range(len(text) + 1):
+        yield text[:at] + text[at + 1:]
+        for sign in SIGNS:
+            yield text[:at] + sign + text[at:]
+            yield text[:at] + sign + text[at + 1:]
 
 
 class OutOfBits(Exception):
@@ -163,3 +194,13 @@ class PlainReading:
 def plainly_read(bits, many, planes):
     reading = PlainReading(bits, many, planes)
     return (reading.spans(), reading.used, reading.whole)
+
+
+def plainly_seen(head, bits):
+    """The picture as read from these bits."""
+    spans = plainly_read(bits, head[0] * head[1], head[3])[0]
+    return opened_spans(sheet_of(head, spans), head[4], head[2])
+
+
+def broadest_of(sheet):
+    return max(high - low for low, high in each_thing(sheet))

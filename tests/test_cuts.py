@@ -3,25 +3,15 @@
 import random
 import unittest
 
-from helping import NAMES, UTMOST, each_thing, some_cuts, some_ladder, some_picture, some_streams
+from helping import (NAMES, UTMOST, broadest_of, each_thing, plainly_seen, some_cuts, some_ladder, some_picture,
+                     some_streams)
 from liftwave.bitreading import ends
 from liftwave.cuts import bounds, broad, enough, least
 from liftwave.lifts import ladder_of
-from liftwave.reader import Reader
 from liftwave.sheets import opened_breadths
 from liftwave.streams import coded
 
 LINE = ladder_of("line")
-
-
-def seen(head, bits):
-    reader = Reader(head)
-    reader.feed(bits)
-    return reader.seen()
-
-
-def broad_by_looking(head, bits):
-    return max(high - low for low, high in each_thing(seen(head, bits)))
 
 
 class Bounds(unittest.TestCase):
@@ -55,13 +45,14 @@ class Bounds(unittest.TestCase):
             self.assertEqual(len(cuts), head[3] + 1)
             for row, cut in enumerate(cuts):
                 most = each_thing(bounds(head, head[3] - row))
-                for span, bound in zip(each_thing(seen(head, bits[:cut])), most, strict=True):
+                for span, bound in zip(each_thing(plainly_seen(head, bits[:cut])), most, strict=True):
                     self.assertLessEqual(span[1] - span[0], bound)
 
     def test_ahead_of_the_first_row_still_reaches_them(self):
         for planes in range(1, 9):
             head = (2, 2, 3, planes, ())
-            self.assertEqual([[high - low for low, high in row] for row in seen(head, "")], bounds(head, planes))
+            breadths = [[high - low for low, high in row] for row in plainly_seen(head, "")]
+            self.assertEqual(breadths, bounds(head, planes))
 
     def test_the_sheet_is_the_askers_own(self):
         head = (2, 2, 0, 8, ())
@@ -89,7 +80,7 @@ class Broad(unittest.TestCase):
         for chance, picture, ladder, levels in some_streams(270):
             head, bits = coded(picture, ladder, levels)
             for many in some_cuts(chance, bits, 5):
-                self.assertEqual(broad(head, bits, many), broad_by_looking(head, bits[:many]))
+                self.assertEqual(broad(head, bits, many), broadest_of(plainly_seen(head, bits[:many])))
             self.assertEqual(broad(head, bits, len(bits)), 0)
             self.assertEqual(broad(head, bits + "1011", len(bits) + 4), 0)
 
@@ -163,9 +154,9 @@ class Enough(unittest.TestCase):
                 if most >= 0:
                     many = enough(head, bits, most)
                     with self.subTest(picture=picture, ladder=ladder, levels=levels, most=most):
-                        self.assertLessEqual(broad_by_looking(head, bits[:many]), most)
+                        self.assertLessEqual(broadest_of(plainly_seen(head, bits[:many])), most)
                         if many > 0:
-                            self.assertGreater(broad_by_looking(head, bits[:many - 1]), most)
+                            self.assertGreater(broadest_of(plainly_seen(head, bits[:many - 1])), most)
 
     def test_very_great_breadths_need_no_bits(self):
         head, bits = coded([[5, 6], [7, 8]])

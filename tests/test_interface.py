@@ -23,7 +23,14 @@ ARGUMENTS = {
                "piece": "(head, spans, top, left, high, wide)"},
     "cuts": {"bounds": "(head, plane)", "broad": "(head, bits, many)", "least": "(low, high, good)",
              "enough": "(head, bits, breadth)"},
+    "sharing": {"share": "(streams, total)"},
+    "packs": {"packed": "(bits)", "unpacked": "(letters)"},
+    "texts": {"read_number": "(word)", "written": "(head, bits)", "read_text": "(text)"},
+    "questions": {"Question": "()", "Size": "()", "Bits": "()", "Broad": "()", "At": "(i, j)", "Level": "(k)",
+                  "Piece": "(top, left, high, wide)", "All": "()", "question": "(row)", "shown": "(sheet)",
+                  "ask": "(text, row)"},
 }
+QUESTIONS = ("Question", "Size", "Bits", "Broad", "At", "Level", "Piece", "All")
 READER_METHODS = {"feed": "(self, bits)", "many": "(self)", "is_whole": "(self)", "spans": "(self)", "seen": "(self)"}
 
 
@@ -40,6 +47,12 @@ class Interface(unittest.TestCase):
         for name, arguments in READER_METHODS.items():
             with self.subTest(name=name):
                 self.assertEqual(str(inspect.signature(getattr(reader, name))), arguments)
+
+    def test_the_questions_method(self):
+        questions = importlib.import_module("liftwave.questions")
+        for name in QUESTIONS:
+            with self.subTest(name=name):
+                self.assertEqual(str(inspect.signature(getattr(questions, name).answer)), "(self, head, bits, whole)")
 
 
 if __name__ == "__main__":

@@ -4,13 +4,11 @@ import itertools
 import random
 import unittest
 
-from helping import (UTMOST, each_thing, sheet_within, single, some_bits, some_cuts, some_ladder, some_picture,
-                     some_streams)
+from helping import (UTMOST, bits_of, holds_each, sheet_within, single, some_bits, some_cuts, some_ladder,
+                     some_picture, some_streams, with_planes)
 from liftwave.bitreading import read
-from liftwave.bitrows import told
-from liftwave.lattice import places
 from liftwave.reader import Reader
-from liftwave.sheets import laid, opened
+from liftwave.sheets import opened
 from liftwave.streams import coded, sheet_of
 
 
@@ -18,17 +16,6 @@ def fed(head, bits):
     reader = Reader(head)
     reader.feed(bits)
     return reader
-
-
-def holds_each(sheet, picture):
-    pairs = zip(each_thing(sheet), each_thing(picture), strict=True)
-    return all(low <= cell <= high for (low, high), cell in pairs)
-
-
-def bits_of(picture, head):
-    """The bits of a picture in the planes of the head, which may be more than the least."""
-    wave = laid(picture, head[4], head[2])
-    return told([wave[i][j] for i, j in places(head[0], head[1], head[2])], head[3])
 
 
 class FromAllBits(unittest.TestCase):
@@ -48,8 +35,8 @@ class FromAllBits(unittest.TestCase):
     def test_in_more_planes_than_the_least(self):
         for chance, picture, ladder, levels in some_streams(32):
             head = coded(picture, ladder, levels)[0]
-            head = head[:3] + (head[3] + chance.randint(1, 5),) + head[4:]
-            reader = fed(head, bits_of(picture, head))
+            head, bits = with_planes(picture, head, head[3] + chance.randint(1, 5))
+            reader = fed(head, bits)
             self.assertIs(reader.is_whole(), True)
             self.assertEqual(reader.seen(), [single(row) for row in picture])
 

@@ -3,12 +3,11 @@
 import random
 import unittest
 
-from helping import plainly_read, single, some_bits, some_cuts, some_picture, some_streams
+from helping import plainly_read, plainly_seen, single, some_bits, some_cuts, some_picture, some_streams
 from liftwave.errors import NoBits, NoHead, TooMany
 from liftwave.lifts import ladder_of
 from liftwave.reader import Reader
-from liftwave.sheets import opened_spans
-from liftwave.streams import coded, sheet_of
+from liftwave.streams import coded
 
 LINE = ladder_of("line")
 
@@ -19,7 +18,7 @@ def state(reader):
 
 def state_by_looking(head, bits):
     spans, used, whole = plainly_read(bits, head[0] * head[1], head[3])
-    return (len(bits), whole, spans, opened_spans(sheet_of(head, spans), head[4], head[2]))
+    return (len(bits), whole, spans, plainly_seen(head, bits))
 
 
 def fed(head, portions):
